@@ -1,0 +1,1 @@
+"""Halfpace: songs that are sung again at half the pace."""

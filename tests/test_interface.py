@@ -1,0 +1,69 @@
+"""The interface: what DOC.md lists stands where it lists it, with the arguments told there."""
+
+import ast
+import unittest
+from pathlib import Path
+
+PACKAGE = Path(__file__).resolve().parent.parent / "halfpace"
+
+FUNCTIONS = {
+    "kinds.py": {"is_whole": ["thing"], "is_beat": ["thing"], "is_name": ["thing"], "is_pace": ["thing"]},
+    "figures.py": {
+        "figures_of": ["number", "pace"],
+        "number_of": ["figures", "pace"],
+        "blocks": ["first", "last", "pace"],
+    },
+}
+
+CLASSES = {
+    "errors.py": [
+        "SongError", "Wrong", "BadVoice", "BadCue", "Unlike", "Taken", "TooGreat", "TooMany", "There", "NoCue", "Full",
+        "NoRoot", "NoNumber", "NoText", "Nothing", "Stopped",
+    ],
+}
+
+
+def body_of(file):
+    return ast.parse((PACKAGE / file).read_text(encoding="utf-8")).body
+
+
+class Interface(unittest.TestCase):
+    def test_functions_are_defined_in_their_files(self):
+        for file, functions in FUNCTIONS.items():
+            defined = {
+                row.name: [arg.arg for arg in row.args.args] for row in body_of(file) if isinstance(row, ast.FunctionDef)
+            }
+            for name, arguments in functions.items():
+                self.assertEqual(defined.get(name), arguments, (file, name))
+
+    def test_classes_are_defined_in_their_files(self):
+        for file, names in CLASSES.items():
+            defined = [row.name for row in body_of(file) if isinstance(row, ast.ClassDef)]
+            for name in names:
+                self.assertIn(name, defined, file)
+
+
+class Files(unittest.TestCase):
+    """What the rules of the language say of files, lines and functions, as far as it is quickly seen."""
+
+    def files(self):
+        return sorted(PACKAGE.rglob("*.py"))
+
+    def test_the_folder_holds_plain_files_alone(self):
+        self.assertIn(PACKAGE / "__init__.py", self.files())
+        for path in PACKAGE.rglob("*"):
+            if "__pycache__" not in path.parts:
+                self.assertTrue(path.is_dir() or path.suffix == ".py", path)
+
+    def test_lines_and_files_are_short_and_plain(self):
+        for path in self.files():
+            text = path.read_text(encoding="utf-8")
+            self.assertTrue(all(sign == "\n" or " " <= sign <= "~" for sign in text), path)
+            self.assertLessEqual(len(text.splitlines()), 399, path)
+            self.assertLessEqual(max(map(len, text.splitlines()), default=0), 120, path)
+
+    def test_functions_are_short(self):
+        for path in self.files():
+            for row in ast.walk(ast.parse(path.read_text(encoding="utf-8"))):
+                if isinstance(row, ast.FunctionDef):
+                    self.assertLessEqual(row.end_lineno - row.lineno + 1, 40, (path, row.name))
