@@ -12,6 +12,11 @@ def is_whole(thing):
     return isinstance(thing, int) and not isinstance(thing, bool)
 
 
+def is_below(thing, limit):
+    """Tell whether a thing is a number from 0 below a limit, as rests and notes are."""
+    return is_whole(thing) and 0 <= thing < limit
+
+
 def is_beat(thing):
     """Tell whether a thing is a beat."""
     return is_whole(thing) and 0 <= thing <= LAST_BEAT

@@ -13,6 +13,19 @@ FUNCTIONS = {
         "number_of": ["figures", "pace"],
         "blocks": ["first", "last", "pace"],
     },
+    "choirs.py": {
+        "is_standing": ["choir", "thing"],
+        "beside": ["one", "other"],
+        "renamed": ["choir", "names"],
+        "renoted": ["choir", "notes"],
+    },
+    "roads.py": {
+        "elder_of": ["song", "beat", "name"],
+        "road": ["song", "beat", "name"],
+        "road_table": ["song", "beat", "name"],
+        "tie": ["song", "one", "other"],
+    },
+    "chords.py": {"is_chord": ["choir", "thing"], "has": ["choir", "standing", "chord"]},
 }
 
 CLASSES = {
@@ -20,6 +33,44 @@ CLASSES = {
         "SongError", "Wrong", "BadVoice", "BadCue", "Unlike", "Taken", "TooGreat", "TooMany", "There", "NoCue", "Full",
         "NoRoot", "NoNumber", "NoText", "Nothing", "Stopped",
     ],
+    "choirs.py": ["Choir"],
+    "songs.py": ["Song"],
+}
+
+# The methods that a class has in its own body; what stands behind a * is handed in by its name.
+METHODS = {
+    ("choirs.py", "Choir"): {
+        "__init__": ["pace", "notes", "voices"],
+        "__eq__": ["other"],
+        "__len__": [],
+        "pace": [],
+        "notes": [],
+        "names": [],
+        "elder": ["name", "rest"],
+        "table": ["name", "rest"],
+        "voices": [],
+        "led": ["standing", "rest"],
+        "behind": ["standing", "wait"],
+        "hangs": ["names"],
+        "only": ["names"],
+        "seen": ["standing", "names"],
+    },
+    ("songs.py", "Song"): {
+        "__init__": ["choir", "first", "*cues=()", "*breaths=()"],
+        "__eq__": ["other"],
+        "choir": [],
+        "first": [],
+        "cues": [],
+        "breaths": [],
+        "roots": [],
+        "standing": ["beat"],
+        "note": ["beat", "name"],
+        "with_cue": ["beat", "name", "note"],
+        "without": ["beat", "name"],
+        "with_breath": ["beat"],
+        "without_breath": ["beat"],
+        "from_root": ["beat"],
+    },
 }
 
 
@@ -27,12 +78,19 @@ def body_of(file):
     return ast.parse((PACKAGE / file).read_text(encoding="utf-8")).body
 
 
+def arguments_of(function):
+    by_name = zip(function.args.kwonlyargs, function.args.kw_defaults)
+    return [arg.arg for arg in function.args.args] + [f"*{arg.arg}={ast.unparse(worth)}" for arg, worth in by_name]
+
+
+def functions_of(body):
+    return {row.name: arguments_of(row) for row in body if isinstance(row, ast.FunctionDef)}
+
+
 class Interface(unittest.TestCase):
     def test_functions_are_defined_in_their_files(self):
         for file, functions in FUNCTIONS.items():
-            defined = {
-                row.name: [arg.arg for arg in row.args.args] for row in body_of(file) if isinstance(row, ast.FunctionDef)
-            }
+            defined = functions_of(body_of(file))
             for name, arguments in functions.items():
                 self.assertEqual(defined.get(name), arguments, (file, name))
 
@@ -41,6 +99,13 @@ class Interface(unittest.TestCase):
             defined = [row.name for row in body_of(file) if isinstance(row, ast.ClassDef)]
             for name in names:
                 self.assertIn(name, defined, file)
+
+    def test_methods_stand_in_their_classes(self):
+        for (file, name), methods in METHODS.items():
+            body = next(row.body for row in body_of(file) if isinstance(row, ast.ClassDef) and row.name == name)
+            defined = functions_of(body)
+            for method, arguments in methods.items():
+                self.assertEqual(defined.get(method), ["self"] + arguments, (file, name, method))
 
 
 class Files(unittest.TestCase):

@@ -2,7 +2,7 @@
 
 import unittest
 
-from halfpace.kinds import is_beat, is_name, is_pace, is_whole
+from halfpace.kinds import is_beat, is_below, is_name, is_pace, is_whole
 
 NO_NUMBERS = [
     True, False, None, "", "a", "1", "07", b"", b"1", [], [1], [[]], (), (0,), (2, 3), {}, {1: 2}, {"a": 1},
@@ -36,6 +36,13 @@ class Kinds(unittest.TestCase):
     def test_paces(self):
         for thing in WHOLE:
             self.told(is_pace, thing, thing in (2, 3, 4))
+
+    def test_numbers_below_a_limit(self):
+        for limit in (2, 3, 4, 5, 10):
+            for thing in WHOLE:
+                self.told(lambda thing: is_below(thing, limit), thing, 0 <= thing < limit)
+            for thing in NO_NUMBERS:
+                self.told(lambda thing: is_below(thing, limit), thing, False)
 
 
 class Names(unittest.TestCase):
