@@ -4,6 +4,7 @@ import itertools
 import random
 
 from halfpace.choirs import Choir
+from halfpace.figures import blocks, figures_of
 from halfpace.songs import Song
 
 # Words of the document's texts, and other names.
@@ -62,6 +63,12 @@ def made_chord(chance, choir, many=None):
     return [(name, chance.randrange(choir.notes())) for name in names]
 
 
+def made_ear(chance, choir, many):
+    return [
+        (chance.choice(choir.names()), tuple(chance.randint(0, 9) for _ in range(choir.notes()))) for _ in range(many)
+    ]
+
+
 def all_standings(choir):
     return list(itertools.product(range(choir.notes()), repeat=len(choir)))
 
@@ -75,6 +82,61 @@ def slow_behind(choir, root, wait):
     if wait == 0:
         return root
     return slow_led(choir, slow_behind(choir, root, wait // choir.pace()), wait % choir.pace())
+
+
+def rising_choir(chance, pace=None, notes=None, many=None):
+    """A choir in which notes mostly rise to the last one, so that hits mostly end."""
+    pace = pace or chance.randint(2, 4)
+    notes = notes or chance.randint(2, 5)
+    many = many or chance.randint(1, most_voices(notes))
+
+    def table():
+        return tuple(chance.randint(min(note + 1, notes - 1), notes - 1) for note in range(notes))
+
+    voices = made_voices(chance, pace, notes, many)
+    return Choir(pace, notes, [(name, elders, tuple(table() for _ in tables)) for name, elders, tables in voices])
+
+
+def has_it(choir, standing, chord):
+    sung = dict(zip(choir.names(), standing))
+    return all(sung[name] == note for name, note in chord)
+
+
+def between(choir, root, first, last):
+    """How many waits from the first to the last lead to each standing, told by blocks of waits."""
+    ways = {(standing, rest): slow_led(choir, standing, rest)
+            for standing in all_standings(choir) for rest in range(choir.pace())}
+    begun = {}
+    for start, level in blocks(max(first, 1), last, choir.pace()) if last >= max(first, 1) else []:
+        standing = root
+        for rest in figures_of(start, choir.pace()):
+            standing = ways[standing, rest]
+        begun.setdefault(level, []).append(standing)
+    row = {}
+    for level in reversed(range(max(begun, default=-1) + 1)):
+        longer = {}
+        for standing, many in row.items():
+            for rest in range(choir.pace()):
+                led = ways[standing, rest]
+                longer[led] = longer.get(led, 0) + many
+        for standing in begun.get(level, []):
+            longer[standing] = longer.get(standing, 0) + 1
+        row = longer
+    if first == 0 <= last:
+        row[root] = row.get(root, 0) + 1
+    return row
+
+
+def many_between(choir, root, chord, first, last):
+    return sum(many for standing, many in between(choir, root, first, last).items() if has_it(choir, standing, chord))
+
+
+def far_enough(choir, start):
+    """A wait to which from the start on the root comes to whatever it comes to from there on at all."""
+    wait = max(start, 1)
+    for _ in range(len(all_standings(choir)) + 2):
+        wait = wait * choir.pace()
+    return wait
 
 
 class Sung:

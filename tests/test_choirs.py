@@ -86,7 +86,10 @@ class Told(unittest.TestCase):
                         self.assertEqual(told.exception.at, 2)
 
     def test_a_name_of_eight_letters_and_names_that_are_words_of_the_texts(self):
-        voices = [("notes", ("notes", "abcdefgh"), ((0, 0), (1, 1))), ("abcdefgh", ("notes", "notes"), ((1, 0), (0, 1)))]
+        voices = [
+            ("notes", ("notes", "abcdefgh"), ((0, 0), (1, 1))),
+            ("abcdefgh", ("notes", "notes"), ((1, 0), (0, 1))),
+        ]
         choir = Choir(2, 2, voices)
         self.assertEqual(choir.names(), ["abcdefgh", "notes"])
         self.assertEqual((choir.elder("notes", 0), choir.elder("notes", 1)), ("notes", "abcdefgh"))
@@ -213,9 +216,12 @@ class Behind(unittest.TestCase):
             standing = made_standing(chance, choir)
             others = all_standings(choir)
             right = {repr(other) for other in others}
-            for thing in spoilt(standing) + [standing + (0,), standing[1:], list(standing), standing[:-1] + (choir.notes(),)]:
+            more = [standing + (0,), standing[1:], list(standing), standing[:-1] + (choir.notes(),)]
+            for thing in spoilt(standing) + more:
                 self.assertIs(is_standing(choir, thing), repr(thing) in right, repr(thing))
-        for thing in ((True, 0), (0, False), [0, 0], "00", None, 0, {0: 0}, (0,), (0, 0, 0), (0, -1), (0, 2), ((0, 0),)):
+        for thing in (
+            (True, 0), (0, False), [0, 0], "00", None, 0, {0: 0}, (0,), (0, 0, 0), (0, -1), (0, 2), ((0, 0),),
+        ):
             self.assertIs(is_standing(Choir(2, 2, TWO), thing), False)
 
 
@@ -329,7 +335,8 @@ class Beside(unittest.TestCase):
     def test_too_great(self):
         for notes, names in ((2, "abcdef"), (3, "abc"), (4, "abc"), (5, "ab")):
             for cut in range(1, len(names)):
-                self.assertEqual(len(beside(self.of(3, notes, names[:cut]), self.of(3, notes, names[cut:]))), len(names))
+                both = beside(self.of(3, notes, names[:cut]), self.of(3, notes, names[cut:]))
+                self.assertEqual(len(both), len(names))
             told = self.refused(self.of(3, notes, names), self.of(3, notes, "z"), TooGreat)
             self.assertEqual(told.most, 64)
             self.assertEqual(self.refused(self.of(3, notes, "z"), self.of(3, notes, names), TooGreat).most, 64)

@@ -36,7 +36,8 @@ class Chords(unittest.TestCase):
                 self.check(choir, thing)
 
     def test_what_is_no_list(self):
-        for thing in ODD + [0, 1, (), (("alto", 1),), {"alto": 1}, "alto", [["alto", 1]], [("alto", 1, 1)], [("alto",)]]:
+        others = [0, 1, (), (("alto", 1),), {"alto": 1}, "alto", [["alto", 1]], [("alto", 1, 1)], [("alto",)]]
+        for thing in ODD + others:
             self.check(TWO, thing)
         self.assertIs(is_chord(TWO, ()), False)
         self.assertIs(is_chord(TWO, []), True)

@@ -26,6 +26,22 @@ FUNCTIONS = {
         "tie": ["song", "one", "other"],
     },
     "chords.py": {"is_chord": ["choir", "thing"], "has": ["choir", "standing", "chord"]},
+    "hits.py": {
+        "hits": ["song", "chord", "upto"],
+        "hit": ["song", "chord", "number"],
+        "first_hit": ["song", "chord", "start"],
+        "all_hits": ["song", "chord"],
+        "turn_of": ["song", "chord"],
+        "is_turn": ["song", "chord", "thing"],
+        "ladder": ["song", "chord", "start"],
+        "is_ladder": ["song", "chord", "start", "thing"],
+    },
+    "waits.py": {
+        "waits": ["choir", "root"],
+        "are_waits": ["choir", "root", "thing"],
+        "wait_for": ["choir", "root", "start", "chord"],
+    },
+    "ears.py": {"is_ear": ["choir", "thing"]},
 }
 
 CLASSES = {
@@ -35,6 +51,7 @@ CLASSES = {
     ],
     "choirs.py": ["Choir"],
     "songs.py": ["Song"],
+    "ears.py": ["Run"],
 }
 
 # The methods that a class has in its own body; what stands behind a * is handed in by its name.
@@ -70,6 +87,13 @@ METHODS = {
         "with_breath": ["beat"],
         "without_breath": ["beat"],
         "from_root": ["beat"],
+    },
+    ("ears.py", "Run"): {
+        "__init__": ["choir", "root", "ear"],
+        "choir": [],
+        "root": [],
+        "ear": [],
+        "sounds": ["wait"],
     },
 }
 

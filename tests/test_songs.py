@@ -158,7 +158,9 @@ class SungBeatByBeat(unittest.TestCase):
                 self.assertEqual(song.note(at, name), walk.standings[at][place])
         roots = sorted({0, *song.breaths(), *[cue[0] for cue in song.cues()]})
         self.assertEqual(song.roots(), [(at, song.standing(at)) for at in roots])
-        self.assertEqual([root for at, root in song.roots() if at <= last], [walk.standings[at] for at in roots if at <= last])
+        for at, root in song.roots():
+            if at <= last:
+                self.assertEqual(root, walk.standings[at])
         # At a far beat there is what the last root has come to.
         for at in FAR:
             if at > roots[-1]:

@@ -1,0 +1,43 @@
+"""To which standings a root comes, behind which waits, and how soon to a chord."""
+
+from halfpace.choirs import is_standing
+from halfpace.counts import counts_from, least_from
+from halfpace.kinds import is_whole
+
+
+def waits(choir, root):
+    """The list of (standing, wait): where a root comes behind waits from 1 on, the least each, rising."""
+    found = {}
+    coming = [(choir.led(root, rest), rest) for rest in range(1, choir.pace())]
+    # All waits of one length come ahead of the longer ones, and rising, so the first is the least.
+    while coming:
+        new = []
+        for standing, wait in coming:
+            if standing not in found:
+                found[standing] = wait
+                new.append((standing, wait))
+        coming = [
+            (choir.led(standing, rest), choir.pace() * wait + rest)
+            for standing, wait in new for rest in range(choir.pace())
+        ]
+    return list(found.items())
+
+
+def are_waits(choir, root, thing):
+    """Tell whether a thing is the list of the waits of a root."""
+    if not isinstance(thing, list) or not all([_is_pair(choir, pair) for pair in thing]):
+        return False
+    # What a reader would look at (each wait comes from another one in the list, none less
+    # comes) holds of this list alone.
+    return thing == waits(choir, root)
+
+
+def _is_pair(choir, thing):
+    if not isinstance(thing, tuple) or len(thing) != 2:
+        return False
+    return is_standing(choir, thing[0]) and is_whole(thing[1])
+
+
+def wait_for(choir, root, start, chord):
+    """The least wait from start on behind which a root has come to a chord, None where there is none."""
+    return least_from(choir, counts_from(choir, chord, start), root, start)
