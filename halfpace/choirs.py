@@ -3,6 +3,7 @@
 from halfpace.errors import BadVoice, Taken, TooGreat, Unlike, Wrong
 from halfpace.figures import figures_of
 from halfpace.kinds import is_below, is_name, is_pace, is_whole
+from halfpace.reach import reached
 
 FEWEST_NOTES = 2
 MOST_NOTES = 5
@@ -25,8 +26,12 @@ class Choir:
         self._voices = sorted(voices)
         self._names = [voice[0] for voice in self._voices]
         self._places = {name: place for place, name in enumerate(self._names)}
+        self._standings = _rows(notes, len(voices))
+        self._numbers = {standing: number for number, standing in enumerate(self._standings)}
         # There are few standings, and all that is asked of far beats goes over these ways.
-        self._ways = {standing: self._ways_of(standing) for standing in _rows(notes, len(voices))}
+        self._ways = {standing: self._ways_of(standing) for standing in self._standings}
+        self._steps = tuple([self._numbered(self._ways[standing]) for standing in self._standings])
+        self._reached = {}
 
     def _ways_of(self, standing):
         return tuple([self._way(standing, rest) for rest in range(self._pace)])
@@ -36,6 +41,9 @@ class Choir:
         for _, elders, tables in self._voices:
             told.append(tables[rest][standing[self._places[elders[rest]]]])
         return tuple(told)
+
+    def _numbered(self, ways):
+        return tuple([self._numbers[standing] for standing in ways])
 
     def __eq__(self, other):
         return (
@@ -85,6 +93,20 @@ class Choir:
         for rest in figures_of(wait, self._pace):
             standing = self._ways[standing][rest]
         return standing
+
+    def number(self, standing):
+        """The number of a standing, counted from 0 as Python sorts them."""
+        return self._numbers[standing]
+
+    def steps(self):
+        """For each standing, by numbers, the tuple of those to which it leads by each rest."""
+        return self._steps
+
+    def reached(self, number):
+        """The tuple of (number, least wait from 1 on) for each standing to which a root comes, by rising waits."""
+        if number not in self._reached:
+            self._reached[number] = tuple(reached(self._steps, number))
+        return self._reached[number]
 
     def hangs(self, names):
         """The sorted list of the names on which the told names hang, they themselves too."""
@@ -171,7 +193,7 @@ def _rows(notes, many):
 
 def standings(choir):
     """The sorted list of all standings of a choir."""
-    return _rows(choir.notes(), len(choir))
+    return list(choir._standings)
 
 
 def is_standing(choir, thing):

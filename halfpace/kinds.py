@@ -17,6 +17,11 @@ def is_below(thing, limit):
     return is_whole(thing) and 0 <= thing < limit
 
 
+def are_rests(thing, pace):
+    """Tell whether a thing is a list of rests of a pace."""
+    return isinstance(thing, list) and all([is_below(rest, pace) for rest in thing])
+
+
 def is_beat(thing):
     """Tell whether a thing is a beat."""
     return is_whole(thing) and 0 <= thing <= LAST_BEAT
@@ -35,3 +40,18 @@ def _is_small(text):
 def is_pace(thing):
     """Tell whether a thing is a pace."""
     return is_whole(thing) and LEAST_PACE <= thing <= GREATEST_PACE
+
+
+def is_same(thing, told):
+    """Tell whether a thing is what is told, a number, None, or a list or tuple of such, part by part of one kind."""
+    if isinstance(told, list):
+        return isinstance(thing, list) and _are_same(thing, told)
+    if isinstance(told, tuple):
+        return isinstance(thing, tuple) and _are_same(thing, told)
+    if told is None:
+        return thing is None
+    return is_whole(thing) and thing == told
+
+
+def _are_same(things, told):
+    return len(things) == len(told) and all([is_same(thing, other) for thing, other in zip(things, told)])

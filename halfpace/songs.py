@@ -150,6 +150,11 @@ def _made(choir, first, cues, breaths):
     return song
 
 
+def breathed(song, beat):
+    """The song with a breath more, however many it has."""
+    return _made(song.choir(), song.first(), song.cues(), song.breaths() + [beat])
+
+
 def _roots_of(choir, first, cues, breaths):
     cued = {beat: [] for beat in [0] + breaths + [cue[0] for cue in cues]}
     for beat, name, note in cues:

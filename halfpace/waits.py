@@ -1,26 +1,14 @@
 """To which standings a root comes, behind which waits, and how soon to a chord."""
 
-from halfpace.choirs import is_standing
+from halfpace.choirs import is_standing, standings
 from halfpace.counts import counts_from, least_from
 from halfpace.kinds import is_whole
 
 
 def waits(choir, root):
     """The list of (standing, wait): where a root comes behind waits from 1 on, the least each, rising."""
-    found = {}
-    coming = [(choir.led(root, rest), rest) for rest in range(1, choir.pace())]
-    # All waits of one length come ahead of the longer ones, and rising, so the first is the least.
-    while coming:
-        new = []
-        for standing, wait in coming:
-            if standing not in found:
-                found[standing] = wait
-                new.append((standing, wait))
-        coming = [
-            (choir.led(standing, rest), choir.pace() * wait + rest)
-            for standing, wait in new for rest in range(choir.pace())
-        ]
-    return list(found.items())
+    told = standings(choir)
+    return [(told[number], wait) for number, wait in choir.reached(choir.number(root))]
 
 
 def are_waits(choir, root, thing):

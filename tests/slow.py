@@ -4,6 +4,9 @@ import itertools
 import random
 
 from halfpace.choirs import Choir
+from halfpace.duos import Duo
+from halfpace.ears import Run
+from halfpace.errors import TooMany
 from halfpace.figures import blocks, figures_of
 from halfpace.songs import Song
 
@@ -79,9 +82,13 @@ def slow_led(choir, standing, rest):
 
 
 def slow_behind(choir, root, wait):
-    if wait == 0:
-        return root
-    return slow_led(choir, slow_behind(choir, root, wait // choir.pace()), wait % choir.pace())
+    rests = []
+    while wait > 0:
+        rests.append(wait % choir.pace())
+        wait = wait // choir.pace()
+    for rest in reversed(rests):
+        root = slow_led(choir, root, rest)
+    return root
 
 
 def rising_choir(chance, pace=None, notes=None, many=None):
@@ -174,9 +181,151 @@ class Sung:
         return told
 
 
+def slow_heard(choir, standing, ear):
+    sung = dict(zip(choir.names(), standing))
+    return tuple(sounds[sung[name]] for name, sounds in ear)
+
+
+def slow_sounds(run, wait):
+    return slow_heard(run.choir(), slow_behind(run.choir(), run.root(), wait), run.ear())
+
+
+def slow_walk(run, last):
+    """What a run sounds like behind each wait from 0 to the last."""
+    choir = run.choir()
+    standings = [run.root()]
+    for wait in range(1, last + 1):
+        standings.append(slow_led(choir, standings[wait // choir.pace()], wait % choir.pace()))
+    return [slow_heard(choir, standing, run.ear()) for standing in standings]
+
+
+def made_ears(chance, one, other, many):
+    """Two ears of two choirs, of one length; of one choir they are mostly the same."""
+    ear = made_ear(chance, one, many)
+    if one.voices() == other.voices() and chance.random() < 0.7:
+        return ear, list(ear)
+    return ear, made_ear(chance, other, many)
+
+
+def made_runs(chance, most_voices_each=2):
+    """Two runs of one pace: often of one choir, of notes that rise, of one root, and of one ear."""
+    made = rising_choir if chance.random() < 0.5 else made_choir
+    one = made(chance, None, None, chance.randint(1, most_voices_each))
+    other = one if chance.random() < 0.6 else made(chance, one.pace(), None, chance.randint(1, most_voices_each))
+    ear, other_ear = made_ears(chance, one, other, chance.randint(1, 2))
+    root = made_standing(chance, one)
+    other_root = root if other is one and chance.random() < 0.5 else made_standing(chance, other)
+    return Run(one, root, ear), Run(other, other_root, other_ear)
+
+
+def made_lag(chance, pace):
+    """A lag: none, small, near a power of the pace, or far."""
+    kind = chance.randrange(4)
+    if kind == 0:
+        return chance.choice([0, 0, 1, 2, 3])
+    if kind == 1:
+        return chance.randint(1, 100)
+    if kind == 2:
+        return pace ** chance.randint(1, 29) + chance.choice([-1, 0, 1])
+    return chance.choice([chance.randrange(2 * 10 ** 18 + 1), 10 ** 18, 2 * 10 ** 18])
+
+
+def made_hand(chance, one, other):
+    """A hand over two choirs: some (side, name, note), or none."""
+    hand = []
+    for side, choir in ((0, one), (1, other)):
+        for name in chance.sample(choir.names(), chance.randint(0, len(choir))):
+            hand.append((side, name, chance.randrange(choir.notes())))
+    return chance.sample(hand, len(hand))
+
+
+def slow_put(choir, standing, notes):
+    sung = dict(zip(choir.names(), standing))
+    sung.update(notes)
+    return tuple(sung[name] for name in choir.names())
+
+
+def slow_by_hand(runs, standings, hand):
+    """The two standings, put as a hand tells."""
+    return tuple(
+        slow_put(run.choir(), standing, {name: note for other, name, note in hand if other == side})
+        for side, (run, standing) in enumerate(zip(runs, standings))
+    )
+
+
 def chances(many, seed):
     """So many sources of chance, the same ones each time."""
     return [random.Random(seed * 10007 + number) for number in range(many)]
+
+
+def made_duos(many, seed):
+    """Duos of all kinds that are not refused, as chance, the two runs and a lag."""
+    for chance in chances(many, seed):
+        one, other = made_runs(chance)
+        lag = made_lag(chance, one.choir().pace())
+        try:
+            Duo(one, other, lag=lag)
+        except TooMany:
+            continue
+        yield chance, one, other, lag
+
+
+def is_unlike_at(one, other, lag, number):
+    return slow_sounds(one, number) != slow_sounds(other, number + lag)
+
+
+def slow_triple(one, other, lag, number, level):
+    """The triple of a number as [61] tells it."""
+    ahead = number + lag // one.choir().pace() ** level
+    waits = [ahead, ahead + 1] if lag else [ahead]
+    others = tuple(slow_behind(other.choir(), other.root(), wait) for wait in waits)
+    return (slow_behind(one.choir(), one.root(), number),) + others
+
+
+class SlowDuo:
+    """The triples that come at each level, one from another, by the words of [61]."""
+
+    def __init__(self, one, other, lag):
+        self.one = one
+        self.other = other
+        self.lag = lag
+        self.pace = one.choir().pace()
+        self.base = len(figures_of(lag, self.pace))
+        self.ways = {}
+        for place, choir in enumerate((one.choir(), other.choir())):
+            for standing in all_standings(choir):
+                for rest in range(self.pace):
+                    self.ways[place, standing, rest] = slow_led(choir, standing, rest)
+
+    def led(self, triple, rest, level):
+        """What comes at a level from one at the level above by a rest."""
+        x = self.ways[0, triple[0], rest]
+        if not self.lag:
+            return (x, self.ways[1, triple[1], rest])
+        g = self.lag // self.pace ** level - self.pace * (self.lag // self.pace ** (level + 1))
+        told = [x]
+        for q in (rest + g, rest + g + 1):
+            told.append(self.ways[1, triple[1], q] if q < self.pace else self.ways[1, triple[2], q - self.pace])
+        return tuple(told)
+
+    def begun(self, level):
+        """The triples of the numbers from 1 below the pace."""
+        return {slow_triple(self.one, self.other, self.lag, number, level) for number in range(1, self.pace)}
+
+    def high(self):
+        found = self.begun(self.base)
+        new = found
+        while new:
+            new = {self.led(triple, rest, self.base) for triple in new for rest in range(self.pace)} - found
+            found = found | new
+        return found
+
+    def levels(self):
+        told = [self.high()]
+        for level in reversed(range(self.base)):
+            coming = {self.led(triple, rest, level) for triple in told[0] for rest in range(self.pace)}
+            told.insert(0, coming | self.begun(level))
+        return told
 
 
 def spoilt(thing):

@@ -4,6 +4,8 @@ import ast
 import unittest
 from pathlib import Path
 
+from halfpace import duos, hands, matches
+
 PACKAGE = Path(__file__).resolve().parent.parent / "halfpace"
 
 FUNCTIONS = {
@@ -42,6 +44,22 @@ FUNCTIONS = {
         "wait_for": ["choir", "root", "start", "chord"],
     },
     "ears.py": {"is_ear": ["choir", "thing"]},
+    "matches.py": {
+        "healing": ["song", "ear", "beat", "name", "note", "*most=MOST"],
+        "is_idle": ["song", "ear", "beat", "*most=MOST"],
+        "canon": ["song", "ear", "later_ear", "lag", "*most=MOST"],
+    },
+    "hands.py": {
+        "told_apart": ["one", "other", "hands", "*most=MOST"],
+        "are_pairs": ["one", "other", "hands", "thing"],
+        "is_parting": ["one", "other", "hands", "thing"],
+    },
+    "wishes.py": {
+        "soonest": ["choir", "root", "wait", "chord", "hands", "most_hands"],
+        "soonest_row": ["choir", "root", "wait", "chord", "hands", "most_hands"],
+        "prices": ["choir", "chord", "hands", "most_hands"],
+        "are_prices": ["choir", "chord", "hands", "most_hands", "thing"],
+    },
 }
 
 CLASSES = {
@@ -52,6 +70,8 @@ CLASSES = {
     "choirs.py": ["Choir"],
     "songs.py": ["Song"],
     "ears.py": ["Run"],
+    "duos.py": ["Duo"],
+    "matches.py": ["Match"],
 }
 
 # The methods that a class has in its own body; what stands behind a * is handed in by its name.
@@ -95,6 +115,27 @@ METHODS = {
         "ear": [],
         "sounds": ["wait"],
     },
+    ("duos.py", "Duo"): {
+        "__init__": ["one", "other", "*lag=0", "*most=MOST"],
+        "lag": [],
+        "triples": ["level"],
+        "is_unlike": ["wait"],
+        "many": ["upto"],
+        "unlike": ["number"],
+        "first": ["start"],
+        "last": [],
+        "is_again": ["lead", "turn", "tail"],
+        "ladder": ["start"],
+        "is_ladder": ["start", "thing"],
+    },
+    ("matches.py", "Match"): {
+        "__init__": ["one", "ear", "other", "other_ear", "*lag=0", "*most=MOST"],
+        "is_unlike": ["beat"],
+        "many": ["upto"],
+        "unlike": ["number"],
+        "first": ["start"],
+        "last": [],
+    },
 }
 
 
@@ -123,6 +164,10 @@ class Interface(unittest.TestCase):
             defined = [row.name for row in body_of(file) if isinstance(row, ast.ClassDef)]
             for name in names:
                 self.assertIn(name, defined, file)
+
+    def test_most_is_400(self):
+        for module in (duos, hands, matches):
+            self.assertEqual(module.MOST, 400)
 
     def test_methods_stand_in_their_classes(self):
         for (file, name), methods in METHODS.items():

@@ -2,7 +2,8 @@
 
 import unittest
 
-from halfpace.kinds import is_beat, is_below, is_name, is_pace, is_whole
+from halfpace.kinds import are_rests, is_beat, is_below, is_name, is_pace, is_same, is_whole
+from tests.slow import ODD, spoilt
 
 NO_NUMBERS = [
     True, False, None, "", "a", "1", "07", b"", b"1", [], [1], [[]], (), (0,), (2, 3), {}, {1: 2}, {"a": 1},
@@ -43,6 +44,23 @@ class Kinds(unittest.TestCase):
                 self.told(lambda thing: is_below(thing, limit), thing, 0 <= thing < limit)
             for thing in NO_NUMBERS:
                 self.told(lambda thing: is_below(thing, limit), thing, False)
+
+
+class Lists(unittest.TestCase):
+    def test_lists_of_rests(self):
+        for pace in (2, 3, 4):
+            for thing in ([], [0], [pace - 1], [0, 1, pace - 1, 0], [1] * 4000):
+                self.assertIs(are_rests(thing, pace), True)
+            for thing in ([pace], [0, pace], [-1], [0, True], [False], [None], ["0"], [[0]], (0,), (), "01", {0: 1}):
+                self.assertIs(are_rests(thing, pace), False)
+            for odd in ODD + [0, 1]:
+                self.assertIs(are_rests(odd, pace), odd == [])
+
+    def test_the_same_part_by_part(self):
+        for told in ([], [(0, None)], [[((0, 1), 7)], [((1, 1), None)]], (1, [2, (3,)]), [0, 1, 10 ** 900]):
+            self.assertIs(is_same(told, told), True)
+            for thing in spoilt(told) + ODD:
+                self.assertIs(is_same(thing, told), repr(thing) == repr(told))
 
 
 class Names(unittest.TestCase):
