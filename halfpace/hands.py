@@ -16,7 +16,7 @@ def told_apart(one, other, hands, *, most=MOST):
     if any([meeting.is_unlike(pair) for _, pair in found]):
         _, root = meeting.begin()
         return ("apart", meeting.tolls(found).row(root))
-    return ("alike", [meeting.told(begun, pair) for begun, pair in found])
+    return ("alike", [(begun,) + meeting.told_pair(pair) for begun, pair in found])
 
 
 def are_pairs(one, other, hands, thing):

@@ -132,7 +132,7 @@ class Tree:
             return None
         figures = figures_of(number, self._pace)
         columns = self._levels.columns(self._levels.base())
-        place = self._heads_at(len(figures) - 1)[figures[0] - 1]
+        place = self._heads[-1][figures[0] - 1]
         ends = {}
         end = 1
         while place not in ends:

@@ -49,9 +49,9 @@ class Meeting:
         """Tell whether the two standings of a pair sound otherwise."""
         return self._weave.is_unlike(pair)
 
-    def told(self, begun, pair):
-        """The tuple (begun, one, other), of standings."""
-        return (begun,) + self._weave.told_pair(pair)
+    def told_pair(self, pair):
+        """The two standings of a pair."""
+        return self._weave.told_pair(pair)
 
     def part(self, told):
         """What is told so."""

@@ -1,5 +1,6 @@
 """What DOC.md tells, worked out slowly and plainly, and choirs and songs made up for the tests."""
 
+import heapq
 import itertools
 import random
 
@@ -8,6 +9,7 @@ from halfpace.duos import Duo
 from halfpace.ears import Run
 from halfpace.errors import TooMany
 from halfpace.figures import blocks, figures_of
+from halfpace.hands import told_apart
 from halfpace.songs import Song
 
 # Words of the document's texts, and other names.
@@ -326,6 +328,111 @@ class SlowDuo:
             coming = {self.led(triple, rest, level) for triple in told[0] for rest in range(self.pace)}
             told.insert(0, coming | self.begun(level))
         return told
+
+
+class SlowField:
+    """What [80] tells of pairs, word by word."""
+
+    def __init__(self, one, other, hands):
+        self.runs = (one, other)
+        self.hands = hands
+        self.pace = one.choir().pace()
+        self.begin = (False, one.root(), other.root())
+        self.right = {
+            repr((begun, x, y)) for begun in (False, True)
+            for x in all_standings(one.choir()) for y in all_standings(other.choir())
+        }
+
+    def unlike(self, x, y):
+        one, other = self.runs
+        return slow_heard(one.choir(), x, one.ear()) != slow_heard(other.choir(), y, other.ear())
+
+    def coming(self, pair):
+        begun, x, y = pair
+        one, other = self.runs
+        told = {
+            (True, slow_led(one.choir(), x, rest), slow_led(other.choir(), y, rest))
+            for rest in range(0 if begun else 1, self.pace)
+        }
+        return told | {(False, *slow_by_hand(self.runs, (x, y), hand)) for hand in self.hands}
+
+    def pairs(self):
+        found = {self.begin}
+        new = found
+        while new:
+            new = {part for pair in new for part in self.coming(pair)} - found
+            found = found | new
+        return sorted(found)
+
+    def is_list(self, thing):
+        if type(thing) is not list or not all(repr(part) in self.right for part in thing):
+            return False
+        pairs = set(thing)
+        return self.begin in pairs and all(
+            not self.unlike(*pair[1:]) and self.coming(pair) <= pairs for pair in pairs
+        )
+
+    def is_row(self, thing):
+        if type(thing) is not list:
+            return False
+        standings = self.begin[1:]
+        wait = None
+        for part in thing:
+            if type(part) is int:
+                if part < 1 or wait is not None:
+                    return False
+                wait = part
+                standings = tuple(
+                    slow_behind(run.choir(), standing, part) for run, standing in zip(self.runs, standings)
+                )
+            else:
+                wait = None
+                if repr(part) not in [repr(("hand", place)) for place in range(len(self.hands))]:
+                    return False
+                standings = slow_by_hand(self.runs, standings, self.hands[part[1]])
+        return self.unlike(*standings)
+
+    def least(self, last):
+        """The least beats, to a last beat, and of these the fewest hands, beat by beat."""
+        now = {(self.begin[1:], 0): 0}
+        for beat in range(last + 1):
+            queue = [(many, state) for state, many in now.items()]
+            heapq.heapify(queue)
+            while queue:
+                many, (roots, wait) = heapq.heappop(queue)
+                if now[roots, wait] < many:
+                    continue
+                sung = tuple(slow_behind(run.choir(), root, wait) for run, root in zip(self.runs, roots))
+                if self.unlike(*sung):
+                    return beat, many
+                for hand in self.hands:
+                    put = (slow_by_hand(self.runs, sung, hand), 0)
+                    if now.get(put, many + 2) > many + 1:
+                        now[put] = many + 1
+                        heapq.heappush(queue, (many + 1, put))
+            now = {(roots, wait + 1): many for (roots, wait), many in now.items()}
+        return None
+
+
+def made_fields(many, seed):
+    """Two runs and hands; often such as sound alike for long."""
+    for chance in chances(many, seed):
+        one, other = made_runs(chance, 2)
+        if chance.random() < 0.5:
+            ear = [(name, tuple(chance.choice([sounds[0], sounds[0], note]) for note in sounds))
+                   for name, sounds in one.ear()]
+            one = Run(one.choir(), one.root(), ear)
+            if other.choir() == one.choir():
+                other = Run(other.choir(), other.root(), ear)
+        hands = [made_hand(chance, one.choir(), other.choir()) for _ in range(chance.randint(1, 4))]
+        if chance.random() < 0.5 and one.choir() == other.choir():
+            # Hands that put the same to both.
+            hands = [[(side, name, note) for own, name, note in hand if own == 0 for side in (0, 1)] for hand in hands]
+        try:
+            told_apart(one, other, hands)
+        except TooMany:
+            continue
+        yield chance, one, other, hands
 
 
 def spoilt(thing):

@@ -1,6 +1,5 @@
 """Promises 80 and 81: two runs under the same hands, told apart or shown to sound alike."""
 
-import heapq
 import unittest
 
 from halfpace.choirs import Choir, beside, renamed
@@ -8,8 +7,7 @@ from halfpace.ears import Run
 from halfpace.errors import SongError, TooMany, Unlike
 from halfpace.hands import are_pairs, is_parting, told_apart
 from tests.slow import (
-    ODD, all_standings, chances, made_choir, made_ear, made_hand, made_runs, made_standing, rising_choir,
-    slow_behind, slow_by_hand, slow_heard, slow_led, spoilt,
+    ODD, SlowField, chances, made_choir, made_ear, made_fields, made_runs, made_standing, rising_choir, spoilt,
 )
 
 HELD = Choir(2, 2, [("a", ("a", "a"), ((0, 1), (0, 1)))])
@@ -18,114 +16,9 @@ EAR = [("a", (0, 1))]
 LAST = 24
 
 
-class Field:
-    """What [80] tells of pairs, word by word."""
-
-    def __init__(self, one, other, hands):
-        self.runs = (one, other)
-        self.hands = hands
-        self.pace = one.choir().pace()
-        self.begin = (False, one.root(), other.root())
-        self.right = {
-            repr((begun, x, y)) for begun in (False, True)
-            for x in all_standings(one.choir()) for y in all_standings(other.choir())
-        }
-
-    def unlike(self, x, y):
-        one, other = self.runs
-        return slow_heard(one.choir(), x, one.ear()) != slow_heard(other.choir(), y, other.ear())
-
-    def coming(self, pair):
-        begun, x, y = pair
-        one, other = self.runs
-        told = {
-            (True, slow_led(one.choir(), x, rest), slow_led(other.choir(), y, rest))
-            for rest in range(0 if begun else 1, self.pace)
-        }
-        return told | {(False, *slow_by_hand(self.runs, (x, y), hand)) for hand in self.hands}
-
-    def pairs(self):
-        found = {self.begin}
-        new = found
-        while new:
-            new = {part for pair in new for part in self.coming(pair)} - found
-            found = found | new
-        return sorted(found)
-
-    def is_list(self, thing):
-        if type(thing) is not list or not all(repr(part) in self.right for part in thing):
-            return False
-        pairs = set(thing)
-        return self.begin in pairs and all(
-            not self.unlike(*pair[1:]) and self.coming(pair) <= pairs for pair in pairs
-        )
-
-    def is_row(self, thing):
-        if type(thing) is not list:
-            return False
-        standings = self.begin[1:]
-        wait = None
-        for part in thing:
-            if type(part) is int:
-                if part < 1 or wait is not None:
-                    return False
-                wait = part
-                standings = tuple(
-                    slow_behind(run.choir(), standing, part) for run, standing in zip(self.runs, standings)
-                )
-            else:
-                wait = None
-                if repr(part) not in [repr(("hand", place)) for place in range(len(self.hands))]:
-                    return False
-                standings = slow_by_hand(self.runs, standings, self.hands[part[1]])
-        return self.unlike(*standings)
-
-    def least(self, last):
-        """The least beats, to a last beat, and of these the fewest hands, beat by beat."""
-        now = {(self.begin[1:], 0): 0}
-        for beat in range(last + 1):
-            queue = [(many, state) for state, many in now.items()]
-            heapq.heapify(queue)
-            while queue:
-                many, (roots, wait) = heapq.heappop(queue)
-                if now[roots, wait] < many:
-                    continue
-                sung = tuple(slow_behind(run.choir(), root, wait) for run, root in zip(self.runs, roots))
-                if self.unlike(*sung):
-                    return beat, many
-                for hand in self.hands:
-                    put = (slow_by_hand(self.runs, sung, hand), 0)
-                    if now.get(put, many + 2) > many + 1:
-                        now[put] = many + 1
-                        heapq.heappush(queue, (many + 1, put))
-            now = {(roots, wait + 1): many for (roots, wait), many in now.items()}
-        return None
-
-
 def cost(row):
     hands = [part for part in row if isinstance(part, tuple)]
     return sum(part for part in row if not isinstance(part, tuple)), len(hands)
-
-
-def fields(many, seed):
-    """Two runs and hands; often such as sound alike for long."""
-    for chance in chances(many, seed):
-        one, other = made_runs(chance, 2)
-        if chance.random() < 0.5:
-            ear = [(name, tuple(chance.choice([sounds[0], sounds[0], note]) for note in sounds))
-                   for name, sounds in one.ear()]
-            one = Run(one.choir(), one.root(), ear)
-            if other.choir() == one.choir():
-                other = Run(other.choir(), other.root(), ear)
-        hands = [made_hand(chance, one.choir(), other.choir()) for _ in range(chance.randint(1, 4))]
-        if chance.random() < 0.5 and one.choir() == other.choir():
-            # Hands that put the same to both.
-            hands = [[(side, name, note) for own, name, note in hand if own == 0 for side in (0, 1)] for hand in hands]
-        try:
-            told_apart(one, other, hands)
-        except TooMany:
-            continue
-        yield chance, one, other, hands
 
 
 def climbing(pace, many):
@@ -136,9 +29,9 @@ def climbing(pace, many):
 class ToldApart(unittest.TestCase):
     def test_alike_or_a_row_of_the_least_beats_and_fewest_hands(self):
         kinds = {}
-        for _, one, other, hands in fields(500, 800):
+        for _, one, other, hands in made_fields(500, 800):
             told = told_apart(one, other, hands)
-            field = Field(one, other, hands)
+            field = SlowField(one, other, hands)
             self.assertIs(type(told), tuple)
             self.assertEqual(len(told), 2)
             if told[0] == "alike":
@@ -176,7 +69,7 @@ class ToldApart(unittest.TestCase):
                     self.assertEqual(told[1], [("hand", 0)])
 
     def test_no_two_waits_side_by_side(self):
-        for _, one, other, hands in fields(150, 801):
+        for _, one, other, hands in made_fields(150, 801):
             told = told_apart(one, other, hands)
             if told[0] == "apart":
                 for part, behind in zip(told[1], told[1][1:]):
@@ -208,7 +101,7 @@ class ToldApart(unittest.TestCase):
             told = told_apart(one, other, [[(0, "a", 0)]])
             self.assertEqual(told, ("apart", [(pace ** 4 - 1) // (pace - 1)]))
             # With a breath between the beats are fewer.
-            least = Field(one, other, [[]]).least(20)
+            least = SlowField(one, other, [[]]).least(20)
             self.assertEqual(cost(told_apart(one, other, [[]])[1]), least)
             self.assertEqual(least, (4, 3))
 
@@ -249,8 +142,8 @@ class Refused(unittest.TestCase):
 
     def test_just_where_more_pairs_come(self):
         at_once = 0
-        for _, one, other, hands in fields(150, 804):
-            field = Field(one, other, hands)
+        for _, one, other, hands in made_fields(150, 804):
+            field = SlowField(one, other, hands)
             many = len(field.pairs())
             at_once += field.unlike(one.root(), other.root())
             expected = told_apart(one, other, hands)
@@ -273,13 +166,13 @@ class Pairs(unittest.TestCase):
         handed = (one, other, hands)
         if getattr(self, "handed", None) != handed:
             self.handed = handed
-            self.field = Field(*handed)
+            self.field = SlowField(*handed)
         told = are_pairs(one, other, hands, thing)
         self.assertIs(told, self.field.is_list(thing), repr(thing)[:300])
         return told
 
     def some(self, many, seed):
-        for chance, one, other, hands in fields(many, seed):
+        for chance, one, other, hands in made_fields(many, seed):
             told = told_apart(one, other, hands)
             if told[0] == "alike":
                 yield chance, (one, other, hands), told[1]
@@ -306,7 +199,7 @@ class Pairs(unittest.TestCase):
         right = 0
         for chance, handed, told in self.some(100, 806):
             one, other, _ = handed
-            field = Field(*handed)
+            field = SlowField(*handed)
             for _ in range(5):
                 more = {(chance.random() < 0.5, made_standing(chance, one.choir()), made_standing(chance, other.choir()))}
                 while not {part for pair in more for part in field.coming(pair)} <= more:
@@ -326,9 +219,9 @@ class Pairs(unittest.TestCase):
         self.assertIs(are_pairs(one, one, [[]], [(False, (0,), (False,)), (True, (0,), (0,))] + pairs), False)
 
     def test_where_they_are_told_apart_nothing_shows_it(self):
-        for _, one, other, hands in fields(100, 807):
+        for _, one, other, hands in made_fields(100, 807):
             if told_apart(one, other, hands)[0] == "apart":
-                field = Field(one, other, hands)
+                field = SlowField(one, other, hands)
                 self.assertIs(self.check(one, other, hands, field.pairs()), False)
                 alike = [pair for pair in field.pairs() if not field.unlike(*pair[1:])]
                 self.assertIs(self.check(one, other, hands, alike), False)
@@ -351,11 +244,11 @@ class Rows(unittest.TestCase):
 
     def test_spoilt_at_a_place(self):
         kinds = {True: 0, False: 0}
-        for chance, one, other, hands in fields(200, 808):
+        for chance, one, other, hands in made_fields(200, 808):
             told = told_apart(one, other, hands)
             if told[0] == "alike":
                 continue
-            field = Field(one, other, hands)
+            field = SlowField(one, other, hands)
             row = told[1]
             hand = ("hand", chance.randrange(len(hands)))
             wait = chance.choice([1, 2, 10 ** 18, 10 ** 40, chance.randrange(1, 10 ** 900)])
@@ -374,8 +267,8 @@ class Rows(unittest.TestCase):
 
     def test_rows_of_chance(self):
         kinds = {True: 0, False: 0}
-        for chance, one, other, hands in fields(150, 809):
-            field = Field(one, other, hands)
+        for chance, one, other, hands in made_fields(150, 809):
+            field = SlowField(one, other, hands)
             for _ in range(6):
                 row = []
                 for _ in range(chance.randint(0, 4)):
@@ -398,7 +291,7 @@ class Rows(unittest.TestCase):
 
 class TheAskersOwn(unittest.TestCase):
     def test_told_lists_are_changed_and_told_again(self):
-        for _, one, other, hands in fields(60, 810):
+        for _, one, other, hands in made_fields(60, 810):
             told = told_apart(one, other, hands)
             kept = repr(told)
             told[1].append(None)
@@ -431,7 +324,7 @@ class Rising(unittest.TestCase):
             note = chance.randrange(choir.notes())
             hands = [[(side, choir.names()[0], note) for side in (0, 1)]]
             told = told_apart(one, Run(choir, one.root(), ear), hands)
-            self.assertEqual(told, ("alike", Field(one, one, hands).pairs()))
+            self.assertEqual(told, ("alike", SlowField(one, one, hands).pairs()))
 
 
 if __name__ == "__main__":

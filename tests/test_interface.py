@@ -4,7 +4,7 @@ import ast
 import unittest
 from pathlib import Path
 
-from halfpace import duos, hands, matches
+from halfpace import books, duos, hands, matches, partings
 
 PACKAGE = Path(__file__).resolve().parent.parent / "halfpace"
 
@@ -54,6 +54,23 @@ FUNCTIONS = {
         "are_pairs": ["one", "other", "hands", "thing"],
         "is_parting": ["one", "other", "hands", "thing"],
     },
+    "partings.py": {
+        "partings": ["one", "other", "hands", "*most=MOST"],
+        "are_partings": ["one", "other", "hands", "thing", "*most=MOST"],
+    },
+    "hearsay.py": {
+        "left": ["song", "heard"],
+        "agree_many": ["song", "heard"],
+        "agreeing": ["song", "heard", "number"],
+        "bar": ["song", "heard"],
+        "is_bar": ["song", "heard", "thing"],
+    },
+    "texts.py": {
+        "show_choir": ["choir"],
+        "show_song": ["song"],
+        "read_choir": ["thing"],
+        "read_song": ["thing"],
+    },
     "wishes.py": {
         "soonest": ["choir", "root", "wait", "chord", "hands", "most_hands"],
         "soonest_row": ["choir", "root", "wait", "chord", "hands", "most_hands"],
@@ -72,6 +89,7 @@ CLASSES = {
     "ears.py": ["Run"],
     "duos.py": ["Duo"],
     "matches.py": ["Match"],
+    "books.py": ["Book"],
 }
 
 # The methods that a class has in its own body; what stands behind a * is handed in by its name.
@@ -136,6 +154,21 @@ METHODS = {
         "first": ["start"],
         "last": [],
     },
+    ("books.py", "Book"): {
+        "__init__": ["song"],
+        "put": ["beat", "name", "note"],
+        "take": ["beat", "name"],
+        "breathe": ["beat"],
+        "flow": ["beat"],
+        "move": ["beat", "name", "later"],
+        "back": [],
+        "again": [],
+        "song": [],
+        "deeds": [],
+        "tried": ["deeds"],
+        "heals": ["deed", "ear", "*most=MOST"],
+        "copied": [],
+    },
 }
 
 
@@ -166,7 +199,7 @@ class Interface(unittest.TestCase):
                 self.assertIn(name, defined, file)
 
     def test_most_is_400(self):
-        for module in (duos, hands, matches):
+        for module in (books, duos, hands, matches, partings):
             self.assertEqual(module.MOST, 400)
 
     def test_methods_stand_in_their_classes(self):
