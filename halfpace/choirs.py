@@ -1,14 +1,17 @@
 """Choirs: voices that sing what their elders sang, turned by tables."""
 
+from halfpace.chords import has
 from halfpace.errors import BadVoice, Taken, TooGreat, Unlike, Wrong
 from halfpace.figures import figures_of
 from halfpace.kinds import is_below, is_name, is_pace, is_whole
+from halfpace.levels import Levels, Tree
 from halfpace.reach import reached
 
 FEWEST_NOTES = 2
 MOST_NOTES = 5
 MOST_VOICES = 6
 MOST_STANDINGS = 64
+MOST_CHORDS = 32
 LEAST_VOICE = ("a", ("a", "a"), ((0, 0), (0, 0)))
 
 
@@ -32,6 +35,7 @@ class Choir:
         self._ways = {standing: self._ways_of(standing) for standing in self._standings}
         self._steps = tuple([self._numbered(self._ways[standing]) for standing in self._standings])
         self._reached = {}
+        self._levels = {}
 
     def _ways_of(self, standing):
         return tuple([self._way(standing, rest) for rest in range(self._pace)])
@@ -107,6 +111,23 @@ class Choir:
         if number not in self._reached:
             self._reached[number] = tuple(reached(self._steps, number))
         return self._reached[number]
+
+    def tree(self, root, chord):
+        """The waits of a root, with a mark where it has come to the chord."""
+        levels = self._levels_of(tuple(chord))
+        number = self._numbers[root]
+        return Tree(levels, [self._steps[number][1:]], levels.counts(0)[number])
+
+    def _levels_of(self, chord):
+        # What is counted for a chord holds for all roots and is asked for again and again;
+        # but a choir can have hundreds of chords, so not all of them are kept.
+        if chord not in self._levels:
+            if len(self._levels) >= MOST_CHORDS:
+                self._levels = {}
+            columns = [[led[rest] for led in self._steps] for rest in range(self._pace)]
+            marks = [int(has(self, standing, chord)) for standing in self._standings]
+            self._levels[chord] = Levels([], columns, marks)
+        return self._levels[chord]
 
     def hangs(self, names):
         """The sorted list of the names on which the told names hang, they themselves too."""

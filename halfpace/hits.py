@@ -1,10 +1,9 @@
 """Hits: the beats at which a song has a chord, how many there are, and what shows that they never end, or end."""
 
-from halfpace.choirs import is_standing, standings
+from halfpace.choirs import is_standing
 from halfpace.chords import has
-from halfpace.counts import counts, counts_from, least_from, many_to, wait_of
-from halfpace.figures import figures_of, number_of
-from halfpace.kinds import is_below
+from halfpace.figures import figures_of
+from halfpace.kinds import are_rests
 from halfpace.waits import waits
 
 LAST_HIT = 10 ** 40
@@ -13,8 +12,7 @@ LAST_HIT = 10 ** 40
 def hits(song, chord, upto):
     """How many hits there are from beat 0 to a beat, that one too."""
     choir = song.choir()
-    levels = counts(choir, chord, len(figures_of(upto, choir.pace())))
-    return sum([many_to(choir, levels, root, last) for _, root, last in _parts(song, upto)])
+    return sum([choir.tree(root, chord).many_below(last + 1) for _, root, last in _parts(song, upto)])
 
 
 def _parts(song, upto):
@@ -26,64 +24,41 @@ def _parts(song, upto):
 
 def hit(song, chord, number):
     """The hit of a number, counted from 0, None where there are not so many to the beat 10 ** 40."""
-    choir = song.choir()
-    levels = counts(choir, chord, len(figures_of(LAST_HIT, choir.pace())))
     for beat, root, last in _parts(song, LAST_HIT):
-        many = many_to(choir, levels, root, last)
+        tree = song.choir().tree(root, chord)
+        many = tree.many_below(last + 1)
         if number < many:
-            return beat + wait_of(choir, levels, root, number)
+            return beat + tree.numbered(number)
         number = number - many
     return None
 
 
 def first_hit(song, chord, start):
     """The first hit from a beat on, None where there is none."""
-    choir = song.choir()
-    levels = counts_from(choir, chord, start)
     final = song.roots()[-1][0]
     for beat, root, last in _parts(song, max(start, final)):
         if start <= beat + last:
-            wait = least_from(choir, levels, root, max(0, start - beat))
-            if wait is not None and (wait <= last or beat == final):
-                return beat + wait
+            tree = song.choir().tree(root, chord)
+            ahead = tree.many_below(max(0, start - beat))
+            # All parts but the final one end.
+            if beat == final or ahead < tree.many_below(last + 1):
+                wait = tree.numbered(ahead)
+                return None if wait is None else beat + wait
     return None
 
 
 def all_hits(song, chord):
     """How many hits there are at all, None where they never end."""
-    if _long_wait(song, chord) is not None:
-        return None
-    return hits(song, chord, song.roots()[-1][0] + _least_long(song.choir()))
-
-
-def _least_long(choir):
-    # The least wait with more figures than there are standings: one is passed twice.
-    return number_of([1] + [0] * len(standings(choir)), choir.pace())
-
-
-def _long_wait(song, chord):
-    # A hit behind such a wait comes again and again; where there is none, the hits end.
-    choir = song.choir()
-    start = _least_long(choir)
-    return least_from(choir, counts_from(choir, chord, start), song.roots()[-1][1], start)
+    beat, root = song.roots()[-1]
+    many = song.choir().tree(root, chord).all_many()
+    if many is None or beat == 0:
+        return many
+    return hits(song, chord, beat - 1) + many
 
 
 def turn_of(song, chord):
     """A (lead, turn, tail) that shows that the hits never end, None where they end."""
-    wait = _long_wait(song, chord)
-    if wait is None:
-        return None
-    choir = song.choir()
-    figures = figures_of(wait, choir.pace())
-    standing = choir.led(song.roots()[-1][1], figures[0])
-    ends = {}
-    end = 1
-    while standing not in ends:
-        ends[standing] = end
-        standing = choir.led(standing, figures[end])
-        end += 1
-    begin = ends[standing]
-    return (figures[:begin], figures[begin:end], figures[end:])
+    return song.choir().tree(song.roots()[-1][1], chord).again()
 
 
 def is_turn(song, chord, thing):
@@ -91,17 +66,13 @@ def is_turn(song, chord, thing):
     choir = song.choir()
     if not isinstance(thing, tuple) or len(thing) != 3:
         return False
-    if not all([_are_rests(choir, part) for part in thing]):
+    if not all([are_rests(part, choir.pace()) for part in thing]):
         return False
     lead, turn, tail = thing
     if not lead or lead[0] == 0 or not turn:
         return False
     begun = _led_by(choir, song.roots()[-1][1], lead)
     return _led_by(choir, begun, turn) == begun and has(choir, _led_by(choir, begun, tail), chord)
-
-
-def _are_rests(choir, thing):
-    return isinstance(thing, list) and all([is_below(rest, choir.pace()) for rest in thing])
 
 
 def _led_by(choir, standing, rests):

@@ -1,7 +1,6 @@
 """To which standings a root comes, behind which waits, and how soon to a chord."""
 
 from halfpace.choirs import is_standing, standings
-from halfpace.counts import counts_from, least_from
 from halfpace.kinds import is_whole
 
 
@@ -28,4 +27,5 @@ def _is_pair(choir, thing):
 
 def wait_for(choir, root, start, chord):
     """The least wait from start on behind which a root has come to a chord, None where there is none."""
-    return least_from(choir, counts_from(choir, chord, start), root, start)
+    tree = choir.tree(root, chord)
+    return tree.numbered(tree.many_below(start))
