@@ -126,8 +126,8 @@ class Braid:
         rows = [[below[led] for led in self.ways(place, level)] for place in above]
         return [[row[rest] for row in rows] for rest in range(self._weave.pace())]
 
-    def passed(self, number):
-        """For each level down to 0, of the base and of the number's figures: (the number's place, those above it)."""
+    def above(self, number):
+        """For each level down to 0, of the base or of the number's figures: the places of those of its row above it."""
         figures = figures_of(number, self._weave.pace())
         figures = [0] * (self.base() - len(figures)) + figures
         rows = []
@@ -138,5 +138,5 @@ class Braid:
             begun = begun or figure > 0
             # Ahead of its first figure the number is 0, which leads to 0 by the rest 0.
             place = row[figure] if begun else self.zero(level)
-            rows.append((place, row[figure + 1:]))
+            rows.append(row[figure + 1:])
         return rows

@@ -72,10 +72,10 @@ class Duo:
     def ladder(self, start):
         """The lists of triples that show that the duo is unlike at no number from this one on, None where it is."""
         braid = self._braid
-        passed = braid.passed(start)
+        owed = braid.above(start)
         rows = [list(braid.found(braid.base()))]
-        for level, (_, above) in zip(reversed(range(len(passed))), passed):
-            rows.append(sorted(set(above + self._ways(rows[-1], level))))
+        for level, places in zip(reversed(range(len(owed))), owed):
+            rows.append(sorted(set(places + self._ways(rows[-1], level))))
         if not self._are_alike(start, rows[-1]):
             return None
         return [braid.told(row) for row in rows]
@@ -89,16 +89,16 @@ class Duo:
     def is_ladder(self, start, thing):
         """Tell whether a thing is such a ladder."""
         braid = self._braid
-        passed = braid.passed(start)
-        if not isinstance(thing, list) or len(thing) != len(passed) + 1:
+        above = braid.above(start)
+        if not isinstance(thing, list) or len(thing) != len(above) + 1:
             return False
         if not all([self._are_places(row) for row in thing]):
             return False
         rows = [{braid.place(told): True for told in row} for row in thing]
         # What stands in the first list leads into it again, what stands in another one into the next.
         owed = [braid.heads(braid.base()) + self._ways(rows[0], braid.base())]
-        for level, (_, above), row in zip(reversed(range(len(passed))), passed, rows):
-            owed.append(above + self._ways(row, level))
+        for level, places, row in zip(reversed(range(len(above))), above, rows):
+            owed.append(places + self._ways(row, level))
         if not all([place in row for row, places in zip(rows, owed) for place in places]):
             return False
         return self._are_alike(start, rows[-1])
